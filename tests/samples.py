@@ -1,0 +1,99 @@
+"""What the tests share: rows to ask about, wrong things, and a reckoning of films of its own."""
+
+HUGE = 10 ** 5000
+
+NO_PIECES = (
+    None, True, False, 0, 1, -1, HUGE, "", "ab", "abcd", (), [], (None,), ("ab",),
+    ("ab", 5, 1), ("ab", 5, 1, 3, 0), ["ab", 5, 1, 3], (("ab", 5, 1, 3),),
+    # names
+    ("", 5, 1, 3), ("abcdefg", 5, 1, 3), ("Ab", 5, 1, 3), ("a1", 5, 1, 3), ("a b", 5, 1, 3),
+    ("ab\n", 5, 1, 3), ("a-", 5, 1, 3), ("\u00e4", 5, 1, 3), ("`", 5, 1, 3), ("{", 5, 1, 3),
+    (None, 5, 1, 3), (5, 5, 1, 3), (True, 5, 1, 3), (["a"], 5, 1, 3), (("a",), 5, 1, 3),
+    # numbers
+    ("ab", -1, 1, 3), ("ab", -1, 1, 1), ("ab", 10000, -1, 3), ("ab", 10000, 0, 1), ("ab", HUGE, 0, 1),
+    ("ab", 9998, 1, 3), ("ab", 9999, 1, 2), ("ab", 1, -1, 3), ("ab", 0, -1, 2),
+    ("ab", True, 1, 3), ("ab", False, 1, 3), ("ab", None, 1, 3), ("ab", "5", 1, 3), ("ab", [5], 1, 3),
+    # steps
+    ("ab", 5, 2, 1), ("ab", 5, -2, 1), ("ab", 5, 2, 2), ("ab", 5, HUGE, 1), ("ab", 5, True, 3),
+    ("ab", 5, False, 3), ("ab", 5, None, 3), ("ab", 5, "1", 3), ("ab", 5, "", 3), ("ab", 5, (1,), 3),
+    # how many
+    ("ab", 5, 1, 0), ("ab", 5, 1, -1), ("ab", 5, 1, 3001), ("ab", 5, 0, 3001), ("ab", 5, 0, HUGE),
+    ("ab", 5, 1, True), ("ab", 5, 1, False), ("ab", 5, 1, None), ("ab", 5, 1, "3"), ("ab", 5, 1, [3]),
+    # nearly black
+    ("", 1, 0, 3), ("", 0, 1, 3), ("", 0, -1, 3), ("", 0, 1, 1), ("", 0, -1, 1), ("", 0, 0, 0),
+    ("", 0, 0, 3001), ("", False, 0, 3), ("", 0, False, 3), ("", 0, 0, True), (None, 0, 0, 3),
+    (0, 0, 0, 3), (False, 0, 0, 3), ([], 0, 0, 3), ((), 0, 0, 3), (" ", 0, 0, 3), ("-", 0, 0, 3),
+)
+
+GOOD_PIECES = (
+    ("a", 5, 1, 3), ("z", 5, 1, 3), ("abcdef", 5, 1, 3), ("uvwxyz", 5, 1, 3), ("ghijkl", 0, 0, 1), ("mnopqr", 0, 0, 1),
+    ("st", 0, 0, 1), ("aaaaaa", 9, 0, 2),
+    ("ab", 0, 1, 1), ("ab", 0, -1, 1), ("ab", 0, 0, 1), ("ab", 9999, 1, 1), ("ab", 9999, -1, 1),
+    ("ab", 9999, 0, 1), ("ab", 9998, 1, 2), ("ab", 1, -1, 2), ("ab", 9999, 0, 3000), ("ab", 0, 0, 3000),
+    ("ab", 0, 1, 3000), ("ab", 7000, 1, 3000), ("ab", 2999, -1, 3000), ("ab", 9999, -1, 3000),
+    ("", 0, 0, 1), ("", 0, 0, 3000),
+)
+
+NO_ROWS = tuple((piece,) for piece in NO_PIECES) + tuple((("ab", 5, 1, 3), piece) for piece in NO_PIECES) + (
+    None, True, False, 0, 1, -1, 3000, HUGE, "", "ab", "ab+5x3", [], [("ab", 5, 1, 3)], ("ab", 5, 1, 3),
+    [["ab", 5, 1, 3]], (("ab", 5, 1, 3), [("ab", 5, 1, 3)]), ((),), ([],), (None,), ("",),
+    (("a", 0, 0, 3000), ("a", 0, 0, 1)),
+    (("a", 0, 1, 3000), ("", 0, 0, 1)),
+    (("", 0, 0, 1500), ("a", 9, 0, 1501)),
+    (("a", 0, 0, 3000), ("b", 0, 0, 3000)),
+    (("a", 0, 0, 1),) * 3001,
+)
+
+FULL_ROWS = (
+    (("a", 0, 0, 3000),),
+    (("a", 0, 1, 2999), ("", 0, 0, 1)),
+    (("", 0, 0, 1500), ("a", 1499, -1, 1500)),
+    (("a", 0, 0, 1),) * 3000,
+)
+
+ROWS = (
+    (),
+    (("ab", 5, 1, 3),),
+    (("ab", 5, -1, 4),),
+    (("ab", 5, 0, 3),),
+    (("", 0, 0, 4),),
+    (("ab", 5, 1, 1), ("ab", 6, -1, 1), ("ab", 7, 0, 1)),
+    (("ab", 5, 1, 3), ("ab", 8, 1, 2), ("", 0, 0, 2), ("", 0, 0, 1), ("c", 9, -1, 4)),
+    (("c", 9, 0, 2), ("ab", 0, 1, 5), ("ab", 4, -1, 5), ("", 0, 0, 1)),
+)
+
+NO_WHOLE_NUMBERS = (None, True, False, "", "0", "1", [], [0], [1], (), (0,), (1,), "ab")
+
+
+def shown(row):
+    frames = []
+    for name, number, step, many in row:
+        while many > 0:
+            frames.append((name, number))
+            number += step
+            many -= 1
+    return frames
+
+
+def can_be_one(frames):
+    # Asks of each step in turn whether one piece with it shows all these frames.
+    name, number = frames[0]
+    steps = (0,) if name == "" else (1, -1, 0)
+    return any(frames == [(name, number + step * k) for k in range(len(frames))] for step in steps)
+
+
+def fewest_pieces(frames):
+    # Tries every way to end the last piece, so that it doesn't hang on how the program goes about it.
+    fewest = [0]
+    for end in range(1, len(frames) + 1):
+        fewest.append(min(fewest[begin] + 1 for begin in range(end) if can_be_one(frames[begin:end])))
+    return fewest[-1]
+
+
+def refusal(call, *things):
+    # The class that is raised itself, as a class above it would do for assertRaises.
+    try:
+        call(*things)
+    except ValueError as error:
+        return type(error)
+    return None
