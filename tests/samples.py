@@ -97,3 +97,25 @@ def refusal(call, *things):
     except ValueError as error:
         return type(error)
     return None
+
+
+# No parts, though some are rows: empty, not least, or none at all.
+NO_PARTS = NO_ROWS + (
+    (), (("ab", 5, 1, 1),), (("ab", 5, -1, 1),), (("ab", 5, 1, 2), ("ab", 7, 1, 2)), (("", 0, 0, 1), ("", 0, 0, 2)),
+    (("a", 5, 0, 1), ("a", 6, 1, 2)), (("a", 5, 0, 1), ("a", 6, 0, 2)), (("a", 5, 1, 2), ("a", 7, -1, 2)),
+)
+PART = (("ab", 5, 1, 2),)
+
+NO_DEEDS = tuple((kind, 0, part) for kind in ("put", "out") for part in NO_PARTS) + tuple(
+    deed for part in NO_PARTS for deed in (("over", 0, part, PART), ("over", 0, PART, part), ("over", 0, part, part))
+) + tuple(
+    deed for place in NO_WHOLE_NUMBERS + (-1, -HUGE)
+    for deed in (("put", place, PART), ("out", place, PART), ("over", place, PART, PART))
+) + (
+    None, True, False, 0, 1, HUGE, "", "put", "over", [], (), ("put",), ("put", 0), ("over", 0), ("over", 0, PART),
+    ["put", 0, PART], [("put", 0, PART)], (("put", 0, PART),), ("put", 0, PART, PART), ("out", 0, PART, PART),
+    ("over", 0, PART, PART, PART), ("put", 0, 0, PART), ("put", 0, list(PART)), ("put", 0, PART[0]),
+    ("", 0, PART), ("Put", 0, PART), ("put ", 0, PART), ("putout", 0, PART), ("p", 0, PART), (None, 0, PART),
+    (True, 0, PART), (0, 0, PART), (["put"], 0, PART), (("put",), 0, PART), ("lay", 0, PART), ("cut", 0, PART),
+    ("over", 0, PART, (("ab", 5, 1, 3),)), ("over", 0, (("ab", 5, 0, 1),), PART), ("over", 0, PART, (("", 0, 0, 1),)),
+)

@@ -1,6 +1,7 @@
 """The form of the package's files: what can be seen of LANGUAGE.md's rules without much ado."""
 
 import ast
+import builtins
 import pathlib
 import re
 import unittest
@@ -37,6 +38,13 @@ METHODS = (
     "items join keys ljust lower lstrip partition pop remove replace reverse rfind rjust rpartition rsplit rstrip "
     "setdefault split splitlines startswith strip update upper values zfill bit_length"
 ).split()
+
+# L23: those of them that change what they are called on.
+CHANGES = "append clear extend insert pop remove reverse setdefault update".split()
+
+# L26: values of an object that may bear a name of Python's own values, though these have it, too.
+FREE_VALUES = "count index title find get join lower upper split strip copy add".split()
+OWN_VALUES = set().union(*[dir(kind) for kind in (str, int, list, tuple, dict, set, bytes)]) - set(FREE_VALUES)
 
 
 def files():
@@ -119,6 +127,46 @@ class Form(unittest.TestCase):
                 if isinstance(node, ast.Name) and isinstance(node.ctx, ast.Load):
                     with self.subTest(path.name, line=node.lineno):
                         self.assertIn(node.id, sorted(bound) + OWN_NAMES)
+
+    def test_no_local_hides_an_import_or_a_name_of_pythons_own(self):
+        for path, text in files():
+            tree = ast.parse(text)
+            taken = set(dir(builtins)) | {part.name for part in tree.body if isinstance(part, ast.ClassDef)}
+            for part in tree.body:
+                if isinstance(part, ast.ImportFrom):
+                    taken.update(name.name for name in part.names)
+            for part in ast.walk(tree):
+                if isinstance(part, ast.FunctionDef):
+                    names = {node.arg for node in ast.walk(part) if isinstance(node, ast.arg)}
+                    names.update(
+                        node.id for node in ast.walk(part) if isinstance(node, ast.Name) and isinstance(node.ctx, ast.Store)
+                    )
+                    with self.subTest(path.name, function=part.name):
+                        self.assertEqual(names & taken, set())
+
+    def test_no_name_is_a_method_and_a_value(self):
+        methods = set()
+        values = set()
+        for path, text in files():
+            for node in ast.walk(ast.parse(text)):
+                if isinstance(node, ast.ClassDef):
+                    methods.update(part.name for part in node.body if isinstance(part, ast.FunctionDef))
+                elif isinstance(node, ast.Attribute) and isinstance(node.ctx, ast.Store):
+                    values.add(node.attr)
+        self.assertEqual(methods & values, set())
+        self.assertEqual(values & OWN_VALUES, set())
+
+    def test_no_loop_changes_what_it_walks(self):
+        for path, text in files():
+            for loop in ast.walk(ast.parse(text)):
+                if isinstance(loop, ast.For):
+                    walked = {ast.unparse(node) for node in ast.walk(loop.iter)}
+                    for node in [node for line in loop.body for node in ast.walk(line)]:
+                        with self.subTest(path.name, line=getattr(node, "lineno", 0)):
+                            if isinstance(node, ast.Call) and isinstance(node.func, ast.Attribute):
+                                self.assertFalse(node.func.attr in CHANGES and ast.unparse(node.func.value) in walked)
+                            if isinstance(node, ast.Subscript) and isinstance(node.ctx, ast.Store):
+                                self.assertNotIn(ast.unparse(node.value), walked)
 
     def test_methods(self):
         own = set()

@@ -5,7 +5,7 @@ import inspect
 import pathlib
 import unittest
 
-from cutroom import cuts, rows
+from cutroom import cuts, deeds, rows, stacks, trims
 
 PACKAGE = pathlib.Path(__file__).resolve().parent.parent / "cutroom"
 
@@ -19,6 +19,18 @@ ARGUMENTS = (
         ("cut_out", "row place many"), ("taken", "row place many"), ("lifted", "row place many"),
         ("moved", "row place many goal"), ("turned_about", "row"),
     )),
+    (trims, (
+        ("is_of", "shelf row"), ("head_trimmed", "shelf row number by"), ("tail_trimmed", "shelf row number by"),
+        ("slipped", "shelf row number by"), ("rolled", "shelf row number by"), ("slid", "shelf row number by"),
+        ("healed", "row number"),
+    )),
+    (stacks, (("Stack", "rows bonds"), ("drift", "one other"))),
+    (stacks.Stack, (
+        ("put", "self number place row"), ("lay", "self number place row"), ("cut", "self number place many"),
+        ("lift", "self number place many"), ("lane", "self number"), ("ends", "self"), ("side_by_side", "self place"),
+        ("bound_with", "self number"),
+    )),
+    (deeds, (("done", "row deed"), ("contrary", "deed"), ("exchanged", "one other"))),
 )
 
 
@@ -27,8 +39,8 @@ class Interface(unittest.TestCase):
         self.assertEqual(ast.parse((PACKAGE / "__init__.py").read_text()).body, [])
 
     def test_names_and_arguments(self):
-        for module, functions in ARGUMENTS:
+        for holder, functions in ARGUMENTS:
             for name, arguments in functions:
                 with self.subTest(name):
-                    found = inspect.signature(getattr(module, name)).parameters
+                    found = inspect.signature(getattr(holder, name)).parameters
                     self.assertEqual(list(found), arguments.split())
