@@ -1,4 +1,6 @@
-"""What the tests share: rows to ask about, wrong things, and a reckoning of films of its own."""
+"""What the tests share: rows to ask about, wrong things, and a reckoning of films and deeds of its own."""
+
+from cutroom.rows import least_of
 
 HUGE = 10 ** 5000
 
@@ -119,3 +121,73 @@ NO_DEEDS = tuple((kind, 0, part) for kind in ("put", "out") for part in NO_PARTS
     (True, 0, PART), (0, 0, PART), (["put"], 0, PART), (("put",), 0, PART), ("lay", 0, PART), ("cut", 0, PART),
     ("over", 0, PART, (("ab", 5, 1, 3),)), ("over", 0, (("ab", 5, 0, 1),), PART), ("over", 0, PART, (("", 0, 0, 1),)),
 )
+
+
+def part_of(frames):
+    return least_of(list(frames))
+
+
+def fresh(name, many):
+    # Frames that no row here shows, no two of which make a longer piece.
+    return part_of([(name, 2 * number) for number in range(many)])
+
+
+def deeds_on(frames, name, sizes):
+    # Each kind of deed, of each size, at each place where it fits.
+    for place in range(len(frames) + 1):
+        for many in sizes:
+            yield ("put", place, fresh(name, many))
+            if place + many <= len(frames):
+                old = part_of(frames[place:place + many])
+                yield ("out", place, old)
+                yield ("over", place, old, fresh(name, many))
+
+
+def any_deed(chance, frames, number, names):
+    # The frames of each deed are its own, so that a film tells which deeds have made it.
+    kind = chance.choice(("put", "out", "over"))
+    new = [(names[number % len(names)], 100 * number + 2 * k) for k in range(chance.randrange(1, 4))]
+    if kind == "put" or not frames:
+        return ("put", chance.randrange(len(frames) + 1), part_of(new))
+    place = chance.randrange(len(frames))
+    old = frames[place:place + len(new)]
+    if kind == "out":
+        return ("out", place, part_of(old))
+    return ("over", place, part_of(old), part_of(new[:len(old)]))
+
+
+def behind(frames, deed):
+    kind, place, part = deed[:3]
+    many = len(shown(part))
+    if kind == "put":
+        return frames[:place] + shown(part) + frames[place:]
+    new = [] if kind == "out" else shown(deed[3])
+    return frames[:place] + new + frames[place + many:]
+
+
+def can_not_be_exchanged(one, other):
+    # What the document says of the marks, reckoned out for each two kinds.
+    p, n = one[1], len(shown(one[2]))
+    q, m = other[1], len(shown(other[2]))
+    return {
+        ("put", "put"): p < q < p + n,
+        ("put", "out"): q <= p + n and p <= q + m,
+        ("put", "over"): q < p + n and p < q + m,
+        ("out", "put"): p == q,
+        ("out", "out"): q < p < q + m,
+        ("out", "over"): q < p < q + m,
+        ("over", "put"): p < q < p + n,
+        ("over", "out"): q < p + n and p < q + m,
+        ("over", "over"): q < p + n and p < q + m,
+    }[(one[0], other[0])]
+
+
+def exchange_reckoned(one, other):
+    if can_not_be_exchanged(one, other):
+        return None
+    p, n = one[1], len(shown(one[2]))
+    q, m = other[1], len(shown(other[2]))
+    more = {"put": 1, "out": -1, "over": 0}
+    if (q if other[0] == "put" else q + m) <= p:
+        return (other, (one[0], p + more[other[0]] * m) + one[2:])
+    return ((other[0], q - more[one[0]] * n) + other[2:], one)

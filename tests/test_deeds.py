@@ -5,40 +5,13 @@ import unittest
 
 from cutroom.deeds import contrary, done, exchanged
 from cutroom.errors import BadDeed, BadRow, NotSo, TooLong
-from cutroom.rows import checked, film, least, least_of
-from tests.samples import FULL_ROWS, HUGE, NO_DEEDS, NO_ROWS, PART, ROWS, refusal, shown
+from cutroom.rows import checked, film, least
+from tests.samples import (
+    FULL_ROWS, HUGE, NO_DEEDS, NO_ROWS, PART, ROWS, behind, deeds_on, exchange_reckoned, fresh, part_of, refusal, shown,
+)
 
 ROW = (("a", 0, 1, 4), ("", 0, 0, 2), ("b", 9, -1, 3))
 KINDS = ("put", "out", "over")
-
-
-def part_of(frames):
-    return least_of(list(frames))
-
-
-def fresh(name, many):
-    # Frames that no row here shows, no two of which make a longer piece.
-    return part_of([(name, 2 * number) for number in range(many)])
-
-
-def deeds_on(frames, name, sizes):
-    # Each kind of deed, of each size, at each place where it fits.
-    for place in range(len(frames) + 1):
-        for many in sizes:
-            yield ("put", place, fresh(name, many))
-            if place + many <= len(frames):
-                old = part_of(frames[place:place + many])
-                yield ("out", place, old)
-                yield ("over", place, old, fresh(name, many))
-
-
-def behind(frames, deed):
-    kind, place, part = deed[:3]
-    many = len(shown(part))
-    if kind == "put":
-        return frames[:place] + shown(part) + frames[place:]
-    new = [] if kind == "out" else shown(deed[3])
-    return frames[:place] + new + frames[place + many:]
 
 
 class Done(unittest.TestCase):
@@ -144,38 +117,10 @@ class Contrary(unittest.TestCase):
                 self.assertEqual(refusal(contrary, deed), BadDeed)
 
 
-def can_not(one, other):
-    # What the document says of the marks, reckoned out for each two kinds.
-    p, n = one[1], len(shown(one[2]))
-    q, m = other[1], len(shown(other[2]))
-    return {
-        ("put", "put"): p < q < p + n,
-        ("put", "out"): q <= p + n and p <= q + m,
-        ("put", "over"): q < p + n and p < q + m,
-        ("out", "put"): p == q,
-        ("out", "out"): q < p < q + m,
-        ("out", "over"): q < p < q + m,
-        ("over", "put"): p < q < p + n,
-        ("over", "out"): q < p + n and p < q + m,
-        ("over", "over"): q < p + n and p < q + m,
-    }[(one[0], other[0])]
-
-
-def reckoned(one, other):
-    if can_not(one, other):
-        return None
-    p, n = one[1], len(shown(one[2]))
-    q, m = other[1], len(shown(other[2]))
-    more = {"put": 1, "out": -1, "over": 0}
-    if (q if other[0] == "put" else q + m) <= p:
-        return (other, (one[0], p + more[other[0]] * m) + one[2:])
-    return ((other[0], q - more[one[0]] * n) + other[2:], one)
-
-
 class Exchanged(unittest.TestCase):
     def check_two(self, frames, one, other):
         told = exchanged(one, other)
-        self.assertEqual(told, reckoned(one, other))
+        self.assertEqual(told, exchange_reckoned(one, other))
         if told is not None:
             self.assertIsInstance(told, tuple)
             row = part_of(frames)

@@ -138,9 +138,8 @@ class Form(unittest.TestCase):
             for part in ast.walk(tree):
                 if isinstance(part, ast.FunctionDef):
                     names = {node.arg for node in ast.walk(part) if isinstance(node, ast.arg)}
-                    names.update(
-                        node.id for node in ast.walk(part) if isinstance(node, ast.Name) and isinstance(node.ctx, ast.Store)
-                    )
+                    named = [node for node in ast.walk(part) if isinstance(node, ast.Name)]
+                    names.update(node.id for node in named if isinstance(node.ctx, ast.Store))
                     with self.subTest(path.name, function=part.name):
                         self.assertEqual(names & taken, set())
 

@@ -5,7 +5,7 @@ import inspect
 import pathlib
 import unittest
 
-from cutroom import cuts, deeds, rows, stacks, trims
+from cutroom import cuts, deeds, joining, journals, lists, rows, stacks, times, trims
 
 PACKAGE = pathlib.Path(__file__).resolve().parent.parent / "cutroom"
 
@@ -31,6 +31,17 @@ ARGUMENTS = (
         ("bound_with", "self number"),
     )),
     (deeds, (("done", "row deed"), ("contrary", "deed"), ("exchanged", "one other"))),
+    (journals, (("Journal", "row"),)),
+    (journals.Journal, (
+        ("do", "self deed"), ("now", "self"), ("beginning", "self"), ("deeds", "self"), ("held_by", "self number"),
+        ("take_back", "self number"),
+    )),
+    (joining, (("clash", "row ones others"), ("joined", "row ones others"))),
+    (times, (
+        ("size_of_day", "rate"), ("time_of", "number rate"), ("number_of", "text rate"), ("later", "text by rate"),
+        ("until", "one other rate"),
+    )),
+    (lists, (("list_of", "row start rate"), ("first_fault", "text rate"), ("read_list", "text rate"))),
 )
 
 

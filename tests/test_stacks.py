@@ -132,7 +132,7 @@ class Made(StackTest):
                 self.check_same(stack, Mirror(FOUR[:many], bonds))
 
     def test_bad_rows(self):
-        for rows in (None, True, 0, 1, HUGE, "", "ab", (), [], [A], list(FOUR), A[0], ((("a", 0, 1, 5),), None), FOUR + (A,)):
+        for rows in (None, True, 0, 1, HUGE, "", "ab", (), [], [A], list(FOUR), A[0], (A, None), FOUR + (A,)):
             for bonds in (((0,),), ((0, 1),), ((0, 1, 2, 3),), ((0, 1, 2, 3, 4),), None, ()):
                 self.assertEqual(refusal(Stack, rows, bonds), BadRow)
         for row in NO_ROWS:
@@ -188,7 +188,8 @@ class Deeds(StackTest):
         self.assertIsNone(stack.cut(2, 3, 2))
         self.assertEqual(told(stack), [(("a", 0, 1, 3),), B, (("", 0, 0, 3), ("c", 6, 0, 1)), D])
         stack.cut(1, 6, 3000)
-        self.assertEqual(told(stack), [(("a", 0, 1, 3),), B[:2] + (("b", 1, 0, 1),), (("", 0, 0, 3), ("c", 6, 0, 1)), D])
+        c = (("", 0, 0, 3), ("c", 6, 0, 1))
+        self.assertEqual(told(stack), [(("a", 0, 1, 3),), B[:2] + (("b", 1, 0, 1),), c, D])
         stack.cut(1, 0, 3000)
         self.assertEqual(stack.ends(), (3, 0, 4, 0))
 
@@ -208,7 +209,9 @@ class Deeds(StackTest):
         self.assertEqual(told(stack), [(("a", 0, 0, 1),), B])
 
     def test_each_deed_at_each_place(self):
-        rows = ((), (("z", 1, 0, 1),), (("z", 1, 1, 2), ("", 0, 0, 2)), (("", 0, 0, 1), ("z", 3, -1, 2)), (("", 0, 0, 3),))
+        rows = (
+            (), (("z", 1, 0, 1),), (("z", 1, 1, 2), ("", 0, 0, 2)), (("", 0, 0, 1), ("z", 3, -1, 2)), (("", 0, 0, 3),),
+        )
         for bonds, number, place in itertools.product(ALL_BONDS[3], range(3), range(11)):
             for name, thing in itertools.chain(
                 itertools.product(("put", "lay"), rows), itertools.product(("cut", "lift"), range(9)),
@@ -389,8 +392,9 @@ class Drift(unittest.TestCase):
         self.assertEqual(drift(one, (("a", 3, 1, 6), ("", 0, 0, 2), ("b", 3, 0, 2))), [("a", 0, 6, 2), ("b", 8, 2, 0)])
         self.assertEqual(drift(one, (("a", 3, 1, 2), ("a", 5, 1, 2), ("a", 9, 1, 2))), [("a", 0, 4, 2), ("a", 4, 2, 0)])
         self.assertEqual(drift(one, (("a", 5, 0, 3),)), [("a", 0, 1, 0), ("a", 1, 1, 1), ("a", 2, 1, 2)])
-        self.assertEqual(drift(one, (("a", 9, 1, 2), ("", 0, 0, 1), ("a", 12, 1, 2))), [("a", 0, 2, -4), ("a", 3, 2, -4)])
-        self.assertEqual(drift(one, (("a", 9, 1, 2), ("b", 0, 0, 1), ("a", 12, 1, 2))), [("a", 0, 2, -4), ("a", 3, 2, -4)])
+        for between in (("", 0, 0, 1), ("b", 0, 0, 1)):
+            other = (("a", 9, 1, 2), between, ("a", 12, 1, 2))
+            self.assertEqual(drift(one, other), [("a", 0, 2, -4), ("a", 3, 2, -4)])
         self.assertEqual(drift((("", 0, 0, 3),), (("", 0, 0, 3),)), [])
         self.assertEqual(drift((), one), [])
         self.assertEqual(drift(one, ()), [])
