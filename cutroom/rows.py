@@ -7,6 +7,7 @@ LETTERS = "abcdefghijklmnopqrstuvwxyz"
 LONGEST_NAME = 6
 LAST_NUMBER = 9999
 MOST_FRAMES = 3000
+BLACK = ("", 0)
 
 
 def is_name(name):
@@ -42,6 +43,10 @@ def is_row(row):
     if not isinstance(row, tuple) or not all([is_piece(piece) for piece in row]):
         return False
     return frames_in(row) <= MOST_FRAMES
+
+
+def are_rows(rows, most):
+    return isinstance(rows, tuple) and 1 <= len(rows) <= most and all([is_row(row) for row in rows])
 
 
 def is_film(frames):

@@ -3,17 +3,10 @@
 from cutroom.checks import is_between
 from cutroom.cuts import check_place, check_size
 from cutroom.errors import BadBonds, BadCount, BadRow, NoLane
-from cutroom.rows import MOST_FRAMES, film, is_row, least_of
+from cutroom.rows import BLACK, MOST_FRAMES, are_rows, film, least_of
 
-BLACK = ("", 0)
 MOST_LANES = 4
 FARTHEST_SEEN = 100000
-
-
-def is_rows(rows):
-    if not isinstance(rows, tuple) or not 1 <= len(rows) <= MOST_LANES:
-        return False
-    return all([is_row(row) for row in rows])
 
 
 def is_bond(bond, lanes):
@@ -53,7 +46,7 @@ def changed(frames, place, many, more):
 
 class Stack:
     def __init__(self, rows, bonds):
-        if not is_rows(rows):
+        if not are_rows(rows, MOST_LANES):
             raise BadRow("this is no tuple of 1 to 4 rows")
         if not are_bonds(bonds, len(rows)):
             raise BadBonds("these are no bonds of the lanes")

@@ -42,15 +42,23 @@ def is_on(shelf, piece):
     return 0 <= min(first, last) and max(first, last) < size_on(shelf, name)
 
 
-def is_of(shelf, row):
+def check_shelf(shelf):
     if not is_shelf(shelf):
         raise BadShelf("this is no shelf")
+
+
+def is_of(shelf, row):
+    check_shelf(shelf)
     return all([is_on(shelf, piece) for piece in checked(row)])
 
 
-def check_asked(shelf, row, number, ahead, behind, by):
+def check_of(shelf, row):
     if not is_of(shelf, row):
         raise OffReel("the row shows what the shelf doesn't have")
+
+
+def check_asked(shelf, row, number, ahead, behind, by):
+    check_of(shelf, row)
     # So many pieces ahead of it and behind it are asked for, too.
     if not is_between(number, ahead, len(row) - 1 - behind):
         raise NoPiece("the row has no such piece, or none beside it")

@@ -67,6 +67,24 @@ ROWS = (
 NO_WHOLE_NUMBERS = (None, True, False, "", "0", "1", [], [0], [1], (), (0,), (1,), "ab")
 
 
+NAMES = ("a", "aa", "ab", "abcdef", "b", "c", "d", "e", "f", "g", "h", "i", "z")
+
+NO_SHELVES = (
+    None, True, False, 0, 1, HUGE, "", "a", [], (), [("a", 5)], ("a", 5), ((),), ([],), (None,), ("a",), ("ab",),
+    tuple((name, 5) for name in NAMES),
+    (["a", 5],), (("a",),), (("a", 5, 1),), (("a", 5), ("b",)), (("a", 5), None), ((("a", 5),),),
+    # names
+    (("", 5),), (("abcdefg", 5),), (("A", 5),), (("a1", 5),), (("a ", 5),), (("\u00e4", 5),), ((None, 5),), ((1, 5),),
+    ((True, 5),), ((("a",), 5),), ((["a"], 5),),
+    # how many
+    (("a", 0),), (("a", -1),), (("a", 10001),), (("a", HUGE),), (("a", True),), (("a", False),), (("a", None),),
+    (("a", "5"),), (("a", [5]),), (("a", (5,)),), (("a", 5), ("b", 0)), (("a", 10001), ("b", 5)),
+    # order
+    (("a", 5), ("a", 5)), (("a", 5), ("a", 6)), (("b", 5), ("a", 5)), (("a", 5), ("c", 5), ("b", 5)),
+    (("ab", 5), ("a", 5)), (("a", 5), ("b", 5), ("b", 5)), (("b", 5), ("b", 5), ("c", 5)),
+)
+
+
 def shown(row):
     frames = []
     for name, number, step, many in row:
@@ -75,6 +93,34 @@ def shown(row):
             number += step
             many -= 1
     return frames
+
+
+def any_row(chance, shelf, many_pieces, longest):
+    # Pieces of each step, and black ones, each as far as its reel goes.
+    pieces = []
+    for number in range(many_pieces):
+        name, size = chance.choice(shelf)
+        step = chance.choice((1, -1, 0, None))
+        first = chance.randrange(size)
+        room = {1: size - first, -1: first + 1}.get(step, longest)
+        many = chance.randint(1, min(room, longest))
+        pieces.append(("", 0, 0, many) if step is None else (name, first, step, many))
+    return tuple(pieces)
+
+
+def runs_of(frames):
+    # Goes through all numbers that a frame can have, one by one, for each name.
+    there = set(frames)
+    runs = []
+    for name in sorted({name for name, number in there}):
+        many = 0
+        for number in range(10001):
+            if (name, number) in there:
+                many += 1
+            elif many > 0:
+                runs.append((name, number - many, many))
+                many = 0
+    return runs
 
 
 def can_be_one(frames):

@@ -5,7 +5,7 @@ import inspect
 import pathlib
 import unittest
 
-from cutroom import cuts, deeds, joining, journals, lists, rows, stacks, times, trims
+from cutroom import changes, cuts, deeds, joining, journals, lists, mixes, pulls, rows, stacks, times, trims
 
 PACKAGE = pathlib.Path(__file__).resolve().parent.parent / "cutroom"
 
@@ -42,6 +42,12 @@ ARGUMENTS = (
         ("until", "one other rate"),
     )),
     (lists, (("list_of", "row start rate"), ("first_fault", "text rate"), ("read_list", "text rate"))),
+    (pulls, (
+        ("pulls", "shelf rows handle"), ("pulled_shelf", "pulled"), ("pulled_row", "pulled row"),
+        ("row_again", "pulled row"),
+    )),
+    (mixes, (("mixed_film", "shelf row mixes"), ("rooms", "shelf row"))),
+    (changes, (("changes", "old new"), ("frames_kept", "old new"))),
 )
 
 

@@ -8,27 +8,13 @@ from cutroom.cuts import in_two
 from cutroom.errors import BadCount, BadRow, BadShelf, NoJoin, NoPiece, OffReel, TooLong, TooShort
 from cutroom.rows import checked, film, length
 from cutroom.trims import head_trimmed, healed, is_of, rolled, slid, slipped, tail_trimmed
-from tests.samples import FULL_ROWS, HUGE, NO_ROWS, NO_WHOLE_NUMBERS, ROWS, can_be_one, refusal, shown
+from tests.samples import (
+    FULL_ROWS, HUGE, NAMES, NO_ROWS, NO_SHELVES, NO_WHOLE_NUMBERS, ROWS, can_be_one, refusal, shown,
+)
 
 FIVE = (head_trimmed, tail_trimmed, slipped, rolled, slid)
 SHELF = (("a", 12), ("b", 9), ("c", 20))
 WIDE = (("a", 10000), ("ab", 10000), ("c", 10000))
-NAMES = ("a", "aa", "ab", "abcdef", "b", "c", "d", "e", "f", "g", "h", "i", "z")
-
-NO_SHELVES = (
-    None, True, False, 0, 1, HUGE, "", "a", [], (), [("a", 5)], ("a", 5), ((),), ([],), (None,), ("a",), ("ab",),
-    tuple((name, 5) for name in NAMES),
-    (["a", 5],), (("a",),), (("a", 5, 1),), (("a", 5), ("b",)), (("a", 5), None), ((("a", 5),),),
-    # names
-    (("", 5),), (("abcdefg", 5),), (("A", 5),), (("a1", 5),), (("a ", 5),), (("\u00e4", 5),), ((None, 5),), ((1, 5),),
-    ((True, 5),), ((("a",), 5),), ((["a"], 5),),
-    # how many
-    (("a", 0),), (("a", -1),), (("a", 10001),), (("a", HUGE),), (("a", True),), (("a", False),), (("a", None),),
-    (("a", "5"),), (("a", [5]),), (("a", (5,)),), (("a", 5), ("b", 0)), (("a", 10001), ("b", 5)),
-    # order
-    (("a", 5), ("a", 5)), (("a", 5), ("a", 6)), (("b", 5), ("a", 5)), (("a", 5), ("c", 5), ("b", 5)),
-    (("ab", 5), ("a", 5)), (("a", 5), ("b", 5), ("b", 5)), (("b", 5), ("b", 5), ("c", 5)),
-)
 
 # Pieces run on, run back, held and black, near a reel's two ends and within it, of one frame and of more.
 PIECES = (

@@ -3,12 +3,15 @@
 import copy
 import unittest
 
+from cutroom.changes import changes, frames_kept
 from cutroom.cuts import cut_out, laid_over, lifted, moved, parted, put_in, taken, turned_about
 from cutroom.deeds import contrary, done, exchanged
 from cutroom.errors import CutError
 from cutroom.joining import clash, joined
 from cutroom.journals import Journal
 from cutroom.lists import first_fault, list_of, read_list
+from cutroom.mixes import mixed_film, rooms
+from cutroom.pulls import pulled_row, pulled_shelf, pulls, row_again
 from cutroom.rows import checked, film, frame_at, least, least_of, length, same_film
 from cutroom.stacks import Stack, drift
 from cutroom.times import later, number_of, size_of_day, time_of, until
@@ -20,6 +23,7 @@ PART = (("c", 0, 1, 2),)
 PUT, OUT = ("put", 2, PART), ("out", 0, (("ab", 5, 0, 1),))
 OVER = ("over", 5, (("", 0, 0, 2),), PART)
 TEXT = list_of(ROW, "01:00:00:00", 25)
+PULLED = [("ab", 5, 5), ("ab", 20, 2), ("c", 6, 4)]
 
 TOLD = (
     (checked, ROW), (length, ROW), (film, ROW), (least, ROW), (frame_at, ROW, 3), (least_of, film(ROW)),
@@ -35,6 +39,9 @@ TOLD = (
     (size_of_day, "drop"), (time_of, 5000, "drop"), (number_of, "00:10:00;00", "drop"), (later, "23:59:59:24", 1, 25),
     (until, "00:00:00:01", "00:00:00:00", 30), (list_of, ROW, "01:00:00:00", 25), (first_fault, TEXT + "\n", 25),
     (read_list, TEXT, 25),
+    (pulls, SHELF, (ROW, PART), 2), (pulled_shelf, PULLED), (pulled_row, PULLED, ROW), (row_again, PULLED, PART),
+    (mixed_film, SHELF, ROW, ((0, 1), (2, 2))), (mixed_film, SHELF, ROW, ()), (rooms, SHELF, ROW),
+    (changes, ROW, PART), (changes, ROW, ROW), (frames_kept, ROW, turned_about(ROW)),
 )
 # With lists among what is handed in.
 REFUSED = (
@@ -44,6 +51,10 @@ REFUSED = (
     (done, ROW, ["put", 0, PART]), (exchanged, PUT, ["put", 0, [PART]]), (joined, ROW, [OUT, [PUT]], []),
     (joined, ROW, [PUT], [PUT]), (time_of, [5], 24), (number_of, ["00:00:00:00"], 24), (size_of_day, [24]),
     (later, "00:00:00:00", [1], 24), (list_of, [ROW], [], []), (read_list, [TEXT], 25), (Journal, [ROW]),
+    (pulls, SHELF, [ROW], [0]), (pulled_shelf, [["ab", 5, 3]]), (pulled_row, PULLED[::-1], ROW),
+    (row_again, PULLED + PULLED, ROW), (pulled_row, PULLED[:1], ROW), (row_again, PULLED, (("c", 9, -1, 4),)),
+    (mixed_film, SHELF, ROW, [(0, 1)]), (mixed_film, SHELF, ROW, ([0, 1],)), (rooms, [SHELF], ROW),
+    (changes, ROW, [PART]), (frames_kept, [], ROW),
 )
 CALLS = TOLD + REFUSED
 
