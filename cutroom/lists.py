@@ -15,10 +15,14 @@ def step_of(sign):
     return {"+": 1, "-": -1, "=": 0}.get(sign)
 
 
+def name_word(name):
+    return "-" if name == "" else name
+
+
 def line_of(number, piece, begin, rate):
     name, first, step, many = piece
     last = frame_of(piece, many - 1)[1]
-    words = [str(number).zfill(4), "-" if name == "" else name, sign_of(step)]
+    words = [str(number).zfill(4), name_word(name), sign_of(step)]
     return " ".join(words + [time_of(place, rate) for place in (first, last, begin, begin + many)])
 
 

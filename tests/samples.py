@@ -237,3 +237,13 @@ def exchange_reckoned(one, other):
     if (q if other[0] == "put" else q + m) <= p:
         return (other, (one[0], p + more[other[0]] * m) + one[2:])
     return ((other[0], q - more[one[0]] * n) + other[2:], one)
+
+
+def holder(deeds, number):
+    deed = deeds[number]
+    for at in range(number + 1, len(deeds)):
+        told = exchange_reckoned(deed, deeds[at])
+        if told is None:
+            return at
+        deed = told[1]
+    return None

@@ -5,7 +5,10 @@ import inspect
 import pathlib
 import unittest
 
-from cutroom import changes, cuts, deeds, joining, journals, lists, mixes, pulls, rows, stacks, times, trims
+from cutroom import (
+    benches, changes, counts, cuts, deeds, desk, joining, journals, lists, mixes, pulls, rows, rowtexts, stacks, times,
+    trims,
+)
 
 PACKAGE = pathlib.Path(__file__).resolve().parent.parent / "cutroom"
 
@@ -48,6 +51,18 @@ ARGUMENTS = (
     )),
     (mixes, (("mixed_film", "shelf row mixes"), ("rooms", "shelf row"))),
     (changes, (("changes", "old new"), ("frames_kept", "old new"))),
+    (desk, (("Desk", "shelf rate"),)),
+    (desk.Desk, (("say", "self line"),)),
+    (counts, (
+        ("reels_in", "row"), ("how_many", "row"), ("black_in", "row"), ("seen_often", "row"), ("shared", "one other"),
+        ("unseen", "shelf row"),
+    )),
+    (benches, (("Bench", "row"),)),
+    (benches.Bench, (
+        ("put", "self place row"), ("cut", "self place many"), ("turn", "self"), ("now", "self"), ("back", "self"),
+        ("forth", "self"), ("counts", "self"), ("twin", "self"),
+    )),
+    (rowtexts, (("row_text", "row"), ("read_row", "text"))),
 )
 
 

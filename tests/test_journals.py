@@ -9,8 +9,8 @@ from cutroom.errors import BadDeed, BadRow, Held, NoDeed, NotSo, TooLong
 from cutroom.journals import Journal
 from cutroom.rows import film, least, least_of
 from tests.samples import (
-    FULL_ROWS, HUGE, NO_DEEDS, NO_ROWS, NO_WHOLE_NUMBERS, PART, ROWS, any_deed, deeds_on, exchange_reckoned, part_of,
-    refusal, shown,
+    FULL_ROWS, HUGE, NO_DEEDS, NO_ROWS, NO_WHOLE_NUMBERS, PART, ROWS, any_deed, deeds_on, exchange_reckoned, holder,
+    part_of, refusal, shown,
 )
 
 ROW = (("a", 0, 1, 6),)
@@ -61,16 +61,6 @@ class Mirror:
                 cell.there = True
             else:
                 cell.frames.pop()
-
-
-def holder(deeds, number):
-    deed = deeds[number]
-    for at in range(number + 1, len(deeds)):
-        told = exchange_reckoned(deed, deeds[at])
-        if told is None:
-            return at
-        deed = told[1]
-    return None
 
 
 class JournalTest(unittest.TestCase):
