@@ -33,7 +33,7 @@ def piece_read(word):
     end = 1
     while end < len(word) and word[end] in LETTERS:
         end += 1
-    first, sign, many = word[end + 1:].partition("x")
+    first, cross, many = word[end + 1:].partition("x")
     return piece_of_words(word[:end], word[end:end + 1], first, many)
 
 
